@@ -60,4 +60,4 @@ def all_groups(world):
             if grown not in found:
                 found[grown] = True
                 waiting.append(grown)
-    return sorted(list(found), key=lambda group: (len(group), group))
+    return sorted(list(found), key=lambda members: (len(members), members))

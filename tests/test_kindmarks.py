@@ -110,6 +110,10 @@ class KindMarksTest(unittest.TestCase):
                      ("lots", ("either", ONE, big), 0), ("maps", ("both", big, ("named", 0)), ONE),
                      ("lots", ("maps", HAND, big), 2), ("pairing", ONE, ("maps", ONE, big))):
             self.too_many(kind, big)
+        # Also ahead of other kinds with too many structures.
+        for kind in (("lots", big, 1), ("maps", big, ONE), ("pairing", big, ONE), ("pairing", ONE, big)):
+            self.too_many(("both", kind, ("lots", MORE, 1)), big)
+            self.too_many(("both", ("lots", MORE, 1), kind), MORE)
         for kind in (("either", big, big), ("both", ONE, big), ("maps", ONE, big), ("both", ("maps", ONE, big), big)):
             self.assertEqual(kind_marks(self.lattice, kind)[0] > 100, True)
 

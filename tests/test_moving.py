@@ -97,6 +97,17 @@ class MovingTest(unittest.TestCase):
         kind = ("both", ("row", 0), ("row", 0))
         self.moves((4,), kind, (rows[3], rows[9]), turn, slow_rename((4,), kind, (rows[3], rows[9]), turn))
 
+    def test_inner_kind_somewhat_beyond_the_limit(self):
+        maps = ("maps", ("one", 0), ("web", 0))
+        webs = slow_list((3,), ("web", 0))
+        answers = (webs[1], webs[6], webs[4])
+        row = (2, 0, 1)
+        moved = slow_rename((3,), maps, answers, row)
+        self.moves((3,), ("both", maps, ("one", 0)), (answers, 1), row, (moved, 0))
+        self.moves((3,), ("lots", maps, 1), (answers,), row, (moved,))
+        self.moves((3,), ("either", ("one", 0), maps), (1, answers), row, (1, moved))
+        self.moves((3,), ("maps", ("named", 1), maps), (answers,), row, (moved,))
+
     def test_six_levels(self):
         kind = ("one", 0)
         for tag in ("both", "either", "maps"):
