@@ -97,13 +97,15 @@ def moved_built(kind, structure, tables):
 
 def renaming_table(world, kind, structures, renaming):
     """Return a dict from each of these structures, in their order, to the renamed one."""
+    # Many structures hold the same ones, so each is renamed only once.
+    wanted = list({value: True for value in structures})
     inner = inner_kinds(kind)
     if not inner:
-        return {value: moved_plain(world, kind, value, renaming) for value in structures}
-    tables = [renaming_table(world, inner[0], left_used(world, kind, structures), renaming)]
+        return {value: moved_plain(world, kind, value, renaming) for value in wanted}
+    tables = [renaming_table(world, inner[0], left_used(world, kind, wanted), renaming)]
     if len(inner) == 2:
-        tables.append(renaming_table(world, inner[1], right_used(kind, structures), renaming))
-    return {value: moved_built(kind, value, tables) for value in structures}
+        tables.append(renaming_table(world, inner[1], right_used(kind, wanted), renaming))
+    return {value: moved_built(kind, value, tables) for value in wanted}
 
 
 def rename_structure(world, kind, structure, number):
