@@ -9,11 +9,11 @@ MOST = 100
 
 
 def power_up_to(base, exponent, most):
-    """Return the power, or some number above `most` if the power is above it."""
+    """Return the power, or some number above `most`, if that is not None, if the power is above it."""
     number = 1
     for _ in range(exponent):
         # Higher powers of such a base only grow; their digits would be too many.
-        if number > most:
+        if most is not None and number > most:
             return number
         number = number * base
     return number
@@ -22,7 +22,7 @@ def power_up_to(base, exponent, most):
 def count_built(kind, counts, most):
     """Count a built kind whose inner kinds have so many structures.
 
-    A number above `most` may be returned as any other number above `most`.
+    A number above `most`, if that is not None, may be returned as any other number above `most`.
     """
     tag = kind[0]
     if tag == "either":
