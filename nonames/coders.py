@@ -120,12 +120,12 @@ class MapsCoder:
         self._size = len(sources.structures)
         keys = factor_keys(sources.form)
         atoms = [sources.form.terms[place][1] for place, _ in keys]
-        self._single = [not one for one in atoms]
+        self._single = [not row for row in atoms]
         self._groups = [[at for at in sources.in_order() if sources.addresses[at][:2] == key] for key in keys]
         self._products = []
         whole = Form.named(1)
-        for one in atoms:
-            product = FormProduct(whole, Form(map_factor(one, answers.form.terms)))
+        for row in atoms:
+            product = FormProduct(whole, Form(map_factor(row, answers.form.terms)))
             self._products.append(product)
             whole = product.whole
 

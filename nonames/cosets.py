@@ -17,3 +17,27 @@ def cosets_in(world, part, group):
             for other in coset:
                 seen[other] = True
     return found
+
+
+def made_thing(world, coset):
+    """Return the renamings of a coset, written as tuples, in ascending order."""
+    return tuple([world.renamings[number] for number in coset])
+
+
+def part_rows(world, group, part, start):
+    """Return, for each member of a group, the numbers of the cosets to which it moves those of one part.
+
+    The cosets are numbered from `start`.
+    """
+    cosets = cosets_in(world, part, group)
+    places = {member: start + at for at, coset in enumerate(cosets) for member in coset}
+    return [tuple([places[world.then(coset[0], member)] for coset in cosets]) for member in group]
+
+
+def coset_rows(world, group, parts):
+    """Return, for each member of a group, the numbers of the cosets to which it moves those of all parts."""
+    rows = [() for _ in group]
+    for part in parts:
+        moved = part_rows(world, group, part, len(rows[0]))
+        rows = [row + more for row, more in zip(rows, moved)]
+    return rows

@@ -20,7 +20,7 @@ def named_terms(count):
 def collected(terms):
     """Return terms ascending by their atoms, with those of equal atoms made one."""
     found = []
-    for count, atoms in sorted(terms, key=lambda term: term[1]):
+    for atoms, count in sorted([(atoms, count) for count, atoms in terms]):
         if found and found[-1][1] == atoms:
             found[-1] = (found[-1][0] + count, atoms)
         else:
@@ -150,6 +150,12 @@ class Form:
 
     def __eq__(self, other):
         return isinstance(other, Form) and self.terms == other.terms
+
+    def __lt__(self, other):
+        # Each class that compares has an order too, so that sorted, min and max may take all values (L5).
+        if not isinstance(other, Form):
+            return NotImplemented
+        return self.terms < other.terms
 
     def __iter__(self):
         return iter(self.terms)

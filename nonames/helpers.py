@@ -1,6 +1,6 @@
 """Helpers, lots of things under a group, and the lots that are restless for a helper."""
 
-from nonames.cosets import cosets_in
+from nonames.cosets import coset_rows
 from nonames.counting import count_structures
 from nonames.errors import BadHelper
 from nonames.kinds import check_kind, is_between
@@ -69,27 +69,9 @@ def lots_under(lattice, number, many):
     return fillings(choices, many)
 
 
-def part_rows(lattice, number, part, start):
-    """Return, for each member of a group, the things to which it moves those of one part.
-
-    The things of the part are numbered from `start`.
-    """
-    world = lattice.world
-    group = lattice.groups[number]
-    cosets = cosets_in(world, lattice.groups[part], group)
-    places = {member: start + at for at, coset in enumerate(cosets) for member in coset}
-    return [[places[world.then(coset[0], member)] for coset in cosets] for member in group]
-
-
 def thing_rows(lattice, number, parts):
     """Return, for each member of a group, the things to which it moves those of a lot."""
-    rows = [() for _ in lattice.groups[number]]
-    start = 0
-    for part in parts:
-        moved = part_rows(lattice, number, part, start)
-        rows = [row + tuple(more) for row, more in zip(rows, moved)]
-        start = start + lattice.ratio(number, part)
-    return rows
+    return coset_rows(lattice.world, lattice.groups[number], [lattice.groups[part] for part in parts])
 
 
 def is_restless_in(lattice, number, helper, parts, space):

@@ -59,7 +59,7 @@ class FormProduct:
         self.whole = left * right
         self._starts = pair_starts(left, right, self.whole)
 
-    def _order(self, place, at):
+    def _part_order(self, place, at):
         """Return the order in which the parts of both addresses stand in the product."""
         atoms = self.left.terms[place][1] + self.right.terms[at][1]
         return sorted(list(range(len(atoms))), key=lambda part: atoms[part])
@@ -70,7 +70,7 @@ class FormProduct:
         at, many, more = other
         goal, start = self._starts[(place, at)]
         items = parts + more
-        row = tuple([items[part] for part in self._order(place, at)])
+        row = tuple([items[part] for part in self._part_order(place, at)])
         return (goal, start + copy * self.right.terms[at][0] + many, row)
 
     def _pair_at(self, goal, copy):
@@ -87,7 +87,7 @@ class FormProduct:
         place, at, within = self._pair_at(goal, copy)
         many = self.right.terms[at][0]
         items = list(row)
-        for part, item in zip(self._order(place, at), row):
+        for part, item in zip(self._part_order(place, at), row):
             items[part] = item
         middle = len(self.left.terms[place][1])
         return ((place, within // many, tuple(items[:middle])), (at, within % many, tuple(items[middle:])))

@@ -4,6 +4,7 @@ from nonames.counting import MOST, count_kind
 from nonames.errors import TooMany
 from nonames.kinds import check_kind, inner_kinds
 from nonames.marks import Marks
+from nonames.moves import orbits_of
 from nonames.spaces import Space
 
 # Above this number of structures a kind has no marks.
@@ -40,15 +41,7 @@ def own_stabilizer(space, group, number):
 
 def orbits_under(space, group):
     """List the orbits of a group on a space, ordered by their first numbers."""
-    found = []
-    seen = {}
-    for number in range(space.size):
-        if number not in seen:
-            orbit = sorted({space.moves[member][number] for member in group})
-            found.append(orbit)
-            for member in orbit:
-                seen[member] = True
-    return found
+    return orbits_of(space.size, [space.moves[member] for member in group])
 
 
 def ways_to_choose(sizes, many):

@@ -32,6 +32,12 @@ class Marks:
     def __eq__(self, other):
         return isinstance(other, Marks) and self.numbers == other.numbers
 
+    def __lt__(self, other):
+        # Each class that compares has an order too, so that sorted, min and max may take all values (L5).
+        if not isinstance(other, Marks):
+            return NotImplemented
+        return self.numbers < other.numbers
+
     def counts(self):
         """Return how often each row of the mark table is taken to make up these marks."""
         table = mark_table(self.lattice)

@@ -27,6 +27,7 @@ class Power:
         self.lattice = lattice
         self.classes = tuple(classes)
         self._sizes = lattice.world.sizes
+        self._rank = (self.classes, self._sizes)
         if not is_power(lattice, self.classes):
             raise BadPower(self.classes)
 
@@ -87,7 +88,13 @@ class Power:
         return self >> Power(self.lattice, ())
 
     def __eq__(self, other):
-        return isinstance(other, Power) and self.classes == other.classes and self._sizes == other._sizes
+        return isinstance(other, Power) and self._rank == other._rank
+
+    def __lt__(self, other):
+        # Each class that compares has an order too, so that sorted, min and max may take all values (L5).
+        if not isinstance(other, Power):
+            return NotImplemented
+        return self._rank < other._rank
 
     def __contains__(self, place):
         return place in self.classes

@@ -3,6 +3,7 @@
 from nonames.errors import BadStructure
 from nonames.kinds import check_kind
 from nonames.listing import list_structures
+from nonames.moves import orbits_of
 from nonames.moving import renaming_table
 
 
@@ -58,15 +59,7 @@ class Space:
 
     def orbits(self):
         """Return the orbits, ordered by their first numbers."""
-        found = []
-        seen = {}
-        for number in range(self.size):
-            if number not in seen:
-                orbit = tuple(sorted({row[number] for row in self.moves}))
-                found.append(orbit)
-                for member in orbit:
-                    seen[member] = True
-        return found
+        return orbits_of(self.size, self.moves)
 
     def stabilizer(self, number):
         """Return the renamings that leave a structure alone."""

@@ -127,7 +127,7 @@ class AddressesTest(unittest.TestCase):
         form = Form.of_kind(large) * Form.of_kind(("tree", 1))
         self.assertEqual(list(addresses_in(world, form)), [])
         self.assertEqual(list(addresses_in(world, form + Form.named(2))), [(0, 0, ()), (0, 1, ())])
-        form = Form.of_kind(("lots", WEB, 9)) * Form.of_kind(("one", 1)) * Form.named(10 ** 9)
+        form = Form.of_kind(("lots", WEB, 9)) * Form.of_kind(("one", 1)) * Form.named(10 ** 15)
         self.assertEqual(list(addresses_in(world, form)), [])
         self.assertEqual(list(addresses_in(world, Form(()))), [])
 

@@ -117,6 +117,9 @@ class FormsTest(unittest.TestCase):
         self.assertFalse(some == some.terms)
         self.assertFalse(some == 2)
         self.assertTrue(some != Form.named(2))
+        self.assertTrue(Form.named(2) < some and Form.named(0) < Form.named(1) and not some < some)
+        with self.assertRaises(TypeError):
+            some < some.terms
 
     def test_of_plain_kinds(self):
         for kind in plain_kinds(2):
@@ -204,6 +207,9 @@ class FormsTest(unittest.TestCase):
         self.too_many(over, over)
         self.assertEqual(len(Form.of_kind(("either", exact, ONE)).terms), 100)
         over = ("maps", HUNDRED, ("either", ONE, named(1)))
+        self.too_many(over, over)
+        # So many terms that they could not be made one by one.
+        over = ("maps", HUNDRED, sum_of(plain(0, 16)))
         self.too_many(over, over)
 
     def test_a_hundred_factors(self):

@@ -13,7 +13,7 @@ FILES = [name for name in NAMES if name.endswith(".py")]
 LIBRARY = {"math": {"gcd", "lcm", "isqrt", "comb", "perm", "factorial"},
            "itertools": {"product", "combinations", "permutations"}}
 CALLED = set("len range enumerate zip min max sum abs sorted reversed int str bool list tuple dict set isinstance ord "
-             "repr any all divmod iter".split())
+             "repr any all divmod iter NotImplemented".split())
 ERRORS = set("Exception ValueError TypeError KeyError IndexError LookupError ZeroDivisionError".split())
 DOUBLE = set("init eq repr str len call iter lt add mul sub floordiv and or xor rshift lshift invert bool contains "
              "getitem setitem pow".split())
@@ -166,6 +166,22 @@ class LanguageTest(unittest.TestCase):
                       and isinstance(item.ctx, ast.Store)}
         self.assertFalse(marked & other)
 
+    def test_l5_classes_that_compare(self):
+        for place, node in self.each(ast.ClassDef):
+            own = {item.name: item for item in node.body if isinstance(item, ast.FunctionDef)}
+            if not {"__eq__", "__lt__"} & set(own):
+                continue
+            self.assertFalse(node.bases, place)
+            self.assertFalse({"__ne__", "__le__", "__gt__", "__ge__"} & set(own), place)
+            key = re.fullmatch(rf"return isinstance\(other, {node.name}\) and self\.(\w+) == other\.\1",
+                               ast.unparse(own["__eq__"].body[-1])).group(1)
+            self.assertEqual([ast.unparse(item) for item in own["__lt__"].body],
+                             [f"if not isinstance(other, {node.name}):\n    return NotImplemented",
+                              f"return self.{key} < other.{key}"], place)
+        for place, node in self.each(ast.Name):
+            if node.id == "NotImplemented":
+                self.assertIn(place.split(":")[0], [name for name, tree in self.trees.items() if "__lt__" in text_of(name)])
+
     def test_l6_statements(self):
         for place, node in self.each(ast.stmt):
             self.assertIsInstance(node, STATEMENTS, place)
@@ -197,6 +213,10 @@ class LanguageTest(unittest.TestCase):
             self.assertEqual(len({item.name for item in plain}), len(plain), name)
             for own in level:
                 self.assertNotIn(own, NEVER)
+            words = {node.id for node in ast.walk(tree) if isinstance(node, ast.Name)}
+            words |= {node.attr for node in ast.walk(tree) if isinstance(node, ast.Attribute)}
+            words |= {own for function in functions(tree) for own in parameters(function)}
+            self.assertFalse(words & NEVER, name)
 
     def test_l8_builtins(self):
         allowed = CALLED | ERRORS | {"True", "False", "None", "property", "classmethod", "staticmethod"}
@@ -251,6 +271,35 @@ class LanguageTest(unittest.TestCase):
                     self.assertIsInstance(parent, ast.Call, f"{name}:{node.lineno}")
                     self.assertIn(parent.func.id, ("list", "tuple", "dict", "sorted", "sum", "enumerate", "zip",
                                                    "reversed"))
+
+    def test_l23_generators(self):
+        made = [node.name for _, node in self.each(ast.FunctionDef)
+                if any(isinstance(item, (ast.Yield, ast.YieldFrom)) for item in ast.walk(node))]
+        self.assertEqual(sorted(made), ["addresses_in", "cycles_of", "tokens_of"])
+        names = [node.name for _, node in self.each(ast.FunctionDef)]
+        for name, tree in self.trees.items():
+            parents = {child: node for node in ast.walk(tree) for child in ast.iter_child_nodes(node)}
+            for node in ast.walk(tree):
+                if isinstance(node, ast.Name) and node.id in made:
+                    self.assertEqual(names.count(node.id), 1)
+                    call = parents[node]
+                    self.assertIsInstance(call, ast.Call, name)
+                    parent = parents[call]
+                    if isinstance(parent, ast.Call):
+                        self.assertIn(parent.func.id, ("list", "tuple", "dict", "enumerate", "zip"), name)
+                    else:
+                        self.assertIsInstance(parent, (ast.For, ast.comprehension), name)
+                        self.assertIs(parent.iter, call)
+
+    def test_l18_methods_and_attributes(self):
+        methods = {item.name for _, node in self.each(ast.ClassDef) for item in node.body if isinstance(item, ast.FunctionDef)}
+        stored = {node.attr for _, node in self.each(ast.Attribute) if isinstance(node.ctx, ast.Store)}
+        values = {item.targets[0].id for _, node in self.each(ast.ClassDef) for item in node.body
+                  if isinstance(item, ast.Assign)}
+        self.assertFalse(methods & stored)
+        self.assertFalse(values & (methods | stored))
+        for place, node in self.each(ast.Attribute):
+            self.assertIn(node.attr, METHODS | methods | stored | values, place)
 
     def test_l24_sets(self):
         for name, tree in self.trees.items():

@@ -67,6 +67,9 @@ class MarksTest(unittest.TestCase):
         self.assertTrue(marks != Marks(self.lattice, [3, 1, 0, 1]))
         for other in ((3, 1, 0, 0), [3, 1, 0, 0], None, 3, "marks"):
             self.assertFalse(marks == other)
+            with self.assertRaises(TypeError):
+                marks < other
+        self.assertTrue(marks < Marks(self.lattice, [3, 1, 0, 1]) and not marks < marks)
 
     def test_of_space(self):
         self.assertEqual(list(Marks.of_space(self.lattice, Space(World((3,)), ("one", 0)))), [3, 1, 0, 0])

@@ -221,7 +221,10 @@ class PowerTest(unittest.TestCase):
         for other in ((0, 1), [0, 1], None, 0, "power", True):
             self.assertFalse(self.of(0, 1) == other)
             self.assertTrue(self.of(0, 1) != other)
+            with self.assertRaises(TypeError):
+                self.of(0, 1) < other
         self.assertFalse(self.nothing == ())
+        self.assertTrue(self.nothing < self.of(0) < self.of(0, 1))
 
     def test_membership(self):
         power = self.of(0, 2)
