@@ -1,9 +1,9 @@
 """The structures of a kind, in ascending order."""
 
-from itertools import permutations
+from nonames.choosing import lots_of, orders_of
 from nonames.counting import count_structures
 from nonames.kinds import inner_kinds
-from nonames.plain import lots_of, plain_structures
+from nonames.plain import plain_structures
 
 
 def map_list(sources, answers):
@@ -16,8 +16,7 @@ def map_list(sources, answers):
 
 def pairing_list(sources, answers):
     """List the tuples that hold each answer once, if there are as many answers as sources."""
-    items = list(answers)
-    return list(permutations(items)) if len(sources) == len(items) else []
+    return orders_of(answers) if len(sources) == len(answers) else []
 
 
 def built_structures(kind, lists):

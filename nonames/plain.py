@@ -1,12 +1,6 @@
 """The structures of the plain kinds."""
 
-from itertools import combinations, permutations
-
-
-def lots_of(members, many):
-    """List the lots of so many members of an ascending list, in ascending order."""
-    items = list(members)
-    return list(combinations(items, many))
+from nonames.choosing import lots_of, orders_of
 
 
 def named_list(world, kind):
@@ -26,17 +20,14 @@ def lot_list(world, kind):
 
 def row_list(world, kind):
     """List the structures of `row`."""
-    things = list(world.things_of(kind[1]))
-    return list(permutations(things))
+    return orders_of(world.things_of(kind[1]))
 
 
 def round_list(world, kind):
     """List the structures of `round`."""
-    things = list(world.things_of(kind[1]))
-    if not things:
-        return [()]
-    others = things[1:]
-    return [(things[0],) + row for row in permutations(others)]
+    things = world.things_of(kind[1])
+    # The least thing comes first, so that only the others change places.
+    return [things[:1] + row for row in orders_of(things[1:])]
 
 
 def hand_list(world, kind):

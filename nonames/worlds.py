@@ -1,14 +1,8 @@
 """Worlds: a few things of one or two sorts, and their renamings."""
 
-from itertools import permutations
 from math import factorial
+from nonames.choosing import orders_of
 from nonames.errors import BadRenaming, BadWorld
-
-
-def rows_of(things):
-    """Return the tuples that hold each thing of a list once, in ascending order."""
-    items = list(things)
-    return list(permutations(items))
 
 
 def renamings_of(sizes):
@@ -16,7 +10,7 @@ def renamings_of(sizes):
     found = [()]
     start = 0
     for size in sizes:
-        rows = rows_of(list(range(start, start + size)))
+        rows = orders_of(list(range(start, start + size)))
         found = [left + right for left in found for right in rows]
         start = start + size
     return found

@@ -10,8 +10,8 @@ import unittest
 PACKAGE = os.path.join(os.path.dirname(os.path.dirname(os.path.abspath(__file__))), "nonames")
 NAMES = sorted(os.listdir(PACKAGE))
 FILES = [name for name in NAMES if name.endswith(".py")]
-LIBRARY = {"math": {"gcd", "lcm", "isqrt", "comb", "perm", "factorial"},
-           "itertools": {"product", "combinations", "permutations"}}
+LIBRARY = {"math": {"gcd", "lcm", "isqrt", "comb", "perm", "factorial"}}
+PRODUCTS = {"product", "combinations", "permutations"}
 CALLED = set("len range enumerate zip min max sum abs sorted reversed int str bool list tuple dict set isinstance ord "
              "repr any all divmod iter NotImplemented".split())
 ERRORS = set("Exception ValueError TypeError KeyError IndexError LookupError ZeroDivisionError".split())
@@ -101,8 +101,17 @@ class LanguageTest(unittest.TestCase):
             for node in ast.walk(tree):
                 if isinstance(node, ast.Call) and isinstance(node.func, ast.Name) and node.func.id in taken:
                     self.assertFalse(node.keywords, name)
-                    if node.func.id in LIBRARY["itertools"]:
-                        self.assertTrue(all(isinstance(item, ast.Name) for item in node.args), name)
+
+    def test_l2_no_products(self):
+        # Spaces, forms, marks, books and desks are iterated over, and groups and bundles have a length.
+        for name, tree in self.trees.items():
+            self.assertNotIn("itertools", text_of(name))
+            for node in ast.walk(tree):
+                if isinstance(node, ast.ImportFrom):
+                    self.assertFalse(PRODUCTS & {alias.name for alias in node.names}, name)
+                elif isinstance(node, ast.Call):
+                    called = node.func.id if isinstance(node.func, ast.Name) else getattr(node.func, "attr", "")
+                    self.assertNotIn(called, PRODUCTS, f"{name}:{node.lineno}")
 
     def test_l3_module_level(self):
         for name, tree in self.trees.items():
