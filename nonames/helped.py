@@ -12,14 +12,23 @@ def help_at(lattice, base, helpers, spaces):
     return None
 
 
+def helps_at(lattice, bases, helpers):
+    """Return a dict from each of these groups to the first help that has it as its base, or to None."""
+    spaces = [answer_space(helper) for helper in helpers]
+    return {base: help_at(lattice, base, helpers, spaces) for base in bases}
+
+
+def help_among(lattice, number, helps):
+    """Return the first help of the group, or None; `helps` is a dict of `helps_at` for all groups that it holds."""
+    for base in lattice.held(number):
+        if helps[base] is not None:
+            return helps[base]
+    return None
+
+
 def first_help(lattice, number, helpers):
     """Return the first help of the group, or None if it is unhelped."""
-    spaces = [answer_space(helper) for helper in helpers]
-    for base in lattice.held(number):
-        found = help_at(lattice, base, helpers, spaces)
-        if found is not None:
-            return found
-    return None
+    return help_among(lattice, number, helps_at(lattice, lattice.held(number), helpers))
 
 
 def unhelped_groups(lattice, helpers):
