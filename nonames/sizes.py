@@ -19,7 +19,7 @@ def sizes_by_group(lattice, numbers, top):
         for base in lattice.held(number):
             if base not in own:
                 own[base] = own_sizes(lattice, base, top)
-    return {number: tuple(sorted({size for base in lattice.held(number) for size in own[base]})) for number in numbers}
+    return {group: tuple(sorted({size for held in lattice.held(group) for size in own[held]})) for group in numbers}
 
 
 def reachable_sizes(lattice, number, *, top=12):

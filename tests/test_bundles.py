@@ -3,7 +3,7 @@
 import unittest
 from itertools import combinations, islice, product
 from nonames.askings import breaks, least_bad, restless_askings
-from nonames.bundles import Bundle, full_bundle, least_bundle
+from nonames.bundles import Bundle, full_bundle, least_bundle, least_covering
 from nonames.errors import BadMove, BadPick, NoPlan
 from nonames.families import Family
 from nonames.helped import first_help, unhelped_groups
@@ -218,6 +218,16 @@ class BundleTest(unittest.TestCase):
                     if not set(least_bad(lattice, stand, good)) & set(unhelped_groups(lattice, helpers)):
                         self.assertEqual(least_bundle(lattice, stand, good, helpers=helpers).askings,
                                          self.slow_least(lattice, stand, good, helpers))
+
+    def test_coverings(self):
+        numbers = (3, 5, 6, 9)
+        lots = [lot for many in range(3) for lot in combinations(numbers, many)]
+        for row in combinations(lots[::-1] + lots[1:4], 5):
+            if set().union(*row) == set(numbers):
+                slow = [places for many in range(6) for places in combinations(range(5), many)
+                        if set().union(*[row[at] for at in places]) == set(numbers)]
+                self.assertEqual(least_covering(list(row), list(numbers)), slow[0])
+        self.assertEqual((least_covering([], []), least_covering([(3,)], [])), ((), ()))
 
     def test_first_of_several_least_bundles(self):
         helpers = [("pick", 2), ("pick", 2), ("pick", 3), ("pick", 3)]

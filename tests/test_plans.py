@@ -129,6 +129,13 @@ class PlanTest(unittest.TestCase):
         self.assertFalse(judge_plan(self.lattice, 5, self.good, (first, (5, 4, 0, (0,))), helpers=[]))
         self.assertFalse(judge_plan(self.lattice, 5, self.good, (first, (5, 4, 0, (0,))), helpers=[("pick", 2)]))
 
+    def test_rows_with_one_part_that_is_not_held(self):
+        helpers = [("pick", 3), ("pick", 4), ("pick", 6)]
+        first = (4, 4, 0, (0,))
+        self.assertTrue(self.judged((first, (5, 4, 2, (0, 0))), helpers))
+        for row in ((5, 4, 1, (0, 1)), (5, 4, 1, (1, 0)), (5, 4, 2, (0, -6)), (5, 4, 2, (0, 6))):
+            self.assertFalse(self.judged((first, row), helpers), row)
+
     def test_helper_that_makes(self):
         helpers = [("make", 3, ("round", 0)), ("pick", 3)]
         good = (0, 4)

@@ -192,9 +192,12 @@ class RoadTest(unittest.TestCase):
                     function(self.worlds[(2, 2)], f)
                 self.assertEqual(caught.exception.given, f)
         for sizes in ((1, 2), (2, 1)):
-            for function in (rings, halve):
-                with self.assertRaises(BadMap):
-                    function(self.worlds[sizes], good)
+            # Neither a map for another world nor the ends of one sort, in order, are a map.
+            for f in (good, tuple(slow_list(sizes, ENDS[0])), tuple(slow_list(sizes, ENDS[1])), ()):
+                for function in (rings, halve):
+                    with self.assertRaises(BadMap) as caught:
+                        function(self.worlds[sizes], f)
+                    self.assertEqual(caught.exception.given, f)
 
 
 if __name__ == "__main__":

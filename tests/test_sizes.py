@@ -107,6 +107,11 @@ class SizeTest(unittest.TestCase):
         self.assertEqual(found[:4], [(6,), (12,), (2, 3), (2, 9)])
         self.assertEqual(least_sizes(self.lattice, self.everything, (0, 1, 2, 3)), [(3,), (6,), (9,), (12,)])
 
+    def test_sizes_up_to_twelve(self):
+        # Only the group of all renamings is left; all sizes from 2 on help it.
+        self.assertEqual(least_sizes(self.lattice, self.everything, (0, 1, 2, 3, 4)), [(size,) for size in range(2, 13)])
+        self.assertEqual(least_sizes(self.lattice, self.everything, (0, 1, 2, 3, 4), top=4), [(2,), (3,), (4,)])
+
     def test_no_lot_is_enough(self):
         self.assertEqual(least_sizes(self.lattice, self.everything, (0,), top=2), [])
         self.assertEqual(least_sizes(self.lattice, self.everything, (0,), top=1), [])

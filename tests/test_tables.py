@@ -117,6 +117,15 @@ class TableTest(unittest.TestCase):
         self.assertEqual(helper_table(lattice, [("pick", 3)], top=2), [(("pick", 3), [])])
         self.assertEqual(helper_table(lattice, [("pick", 3), ("pick", 1)], top=0), [(("pick", 3), []), (("pick", 1), [()])])
 
+    def test_sizes_up_to_twelve(self):
+        lattice = self.lattices[(3,)]
+        world = lattice.world
+        lots = [(size,) for size in range(2, 13)]
+        goal = ("either", ("one", 0), ("round", 0))
+        self.assertEqual(goal_table(world, [goal]), [(goal, lots)])
+        self.assertEqual(start_table(lattice, Space(world, ("named", 1)), Space(world, goal)), [(0, lots)])
+        self.assertEqual(helper_table(lattice, [("pick", 5)]), [(("pick", 5), lots)])
+
     def test_joined_sizes(self):
         self.assertEqual((joined_sizes(), joined_sizes(()), joined_sizes([], [])), ((), (), ()))
         self.assertEqual(joined_sizes([3, 2], (2, 12), [3]), (2, 3, 12))
