@@ -66,7 +66,6 @@ class Family:
 
     def _moved_things(self, k, renaming):
         """Return the numbers that the things of a place have at the place to which a member moves them."""
-        then = self.lattice.world.then
         world = self.lattice.world
         goal = self._fibres[self._goal(k, renaming)]
         moved = [(i, self._leasts[i][world.then(least, renaming)]) for i, least in self._fibres[k]]

@@ -23,6 +23,9 @@ TAKEN = METHODS | {"sort", "args", "encode", "decode", "hex", "fromhex", "format
 BARRED_WORDS = re.compile(r"\b(type|typing|typing_extensions|enum|Enum|IntEnum|StrEnum|Flag|IntFlag|Generic|Protocol|"
                           r"ABC|ABCMeta|namedtuple|NamedTuple|TypedDict|TYPE_CHECKING|abstractmethod)\b")
 NEVER = {"register", "mro", "elements", "open", "input", "law", "version_info", "with_traceback", "add_note"}
+# The methods of builtin values, whether L25 allows them or not.
+BUILT_IN = {name for kind in (str, bytes, int, list, tuple, dict, set) for name in dir(kind)
+            if not name.startswith("__") and callable(getattr(kind, name))}
 STATEMENTS = (ast.Assign, ast.AugAssign, ast.If, ast.While, ast.For, ast.Return, ast.Break, ast.Continue, ast.Pass,
               ast.Raise, ast.Expr, ast.FunctionDef, ast.ClassDef, ast.ImportFrom, ast.Delete, ast.Try)
 
@@ -46,6 +49,22 @@ def bound(function):
     """The names that a function binds: parameters and targets."""
     stored = [node.id for node in ast.walk(function) if isinstance(node, ast.Name) and not isinstance(node.ctx, ast.Load)]
     return set(parameters(function) + stored)
+
+
+def methods_of(trees):
+    """The names of the methods of the package, properties not counted."""
+    classes = [node for tree in trees for node in ast.walk(tree) if isinstance(node, ast.ClassDef)]
+    return {item.name for node in classes for item in node.body if isinstance(item, ast.FunctionDef)
+            if not {"property", item.name + ".setter"} & {ast.unparse(mark) for mark in item.decorator_list}}
+
+
+def kept_methods(tree, own):
+    """The places at which a method stands without being called, except an own method as a `key=`."""
+    allowed = {node.func for node in ast.walk(tree) if isinstance(node, ast.Call)}
+    allowed |= {node.value for node in ast.walk(tree) if isinstance(node, ast.keyword) and node.arg == "key"
+                and isinstance(node.value, ast.Attribute) and node.value.attr in own}
+    return [(node.lineno, ast.unparse(node)) for node in ast.walk(tree) if isinstance(node, ast.Attribute)
+            and isinstance(node.ctx, ast.Load) and node.attr in own | BUILT_IN and node not in allowed]
 
 
 class LanguageTest(unittest.TestCase):
@@ -336,6 +355,29 @@ class LanguageTest(unittest.TestCase):
         for place, node in self.each(ast.Call):
             if isinstance(node.func, ast.Attribute):
                 self.assertIn(node.func.attr, METHODS | own, place)
+
+    def test_l25_methods_are_called_where_they_stand(self):
+        own = methods_of(self.trees.values())
+        for name, tree in self.trees.items():
+            self.assertEqual(kept_methods(tree, own), [], name)
+
+    def test_l25_kept_methods_are_found(self):
+        own = methods_of([ast.parse("class World:\n    def then(self, a, b):\n        return a\n"
+                                    "    @property\n    def top(self):\n        return 1\n"
+                                    "    @top.setter\n    def top(self, value):\n        return None\n"
+                                    "    @staticmethod\n    def told(x):\n        return x")])
+        self.assertEqual(own, {"then", "told"})
+        for row, kept in (("then = self.lattice.world.then", "self.lattice.world.then"),
+                          ("a, b = world.then, 1", "world.then"), ("step = World.told", "World.told"),
+                          ("steps = [world.then]", "world.then"), ("self.step = world.then", "world.then"),
+                          ("steps = {'a': world.then}", "world.then"), ("go(world.then)", "world.then"),
+                          ("go(by=world.then)", "world.then"), ("step = world.then if k else None", "world.then"),
+                          ("put = rows.append", "rows.append"), ("xs = sorted(xs, key=rows.index)", "rows.index")):
+            self.assertEqual(kept_methods(ast.parse(row), own), [(1, kept)], row)
+        for row in ("moved = world.then(a, b)", "xs = [world.then(a, b)]", "rows.append(rows.index(a))",
+                    "xs = sorted(xs, key=world.then)", "top = desk.top", "size = desk.size", "desk.top = 1",
+                    "def f(world):\n    return world.then(a, b)"):
+            self.assertEqual(kept_methods(ast.parse(row), own), [], row)
 
     def test_l27_strings(self):
         for place, node in self.each(ast.Constant):
